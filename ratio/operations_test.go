@@ -7,6 +7,7 @@ import (
 
 	"fundadmin/api"
 	"fundadmin/ratio"
+	"fundadmin/sample"
 )
 
 // TestOperations is of P2.2, written out: signs, zeros and results that are to be reduced.
@@ -84,12 +85,12 @@ func TestFit(t *testing.T) {
 // TestOperationsOfInvalid is of P2.2: in either position and in both, ahead of a division by 0 and of an overflow.
 func TestOperationsOfInvalid(t *testing.T) {
 	for _, f := range operations() {
-		for _, c := range invalid() {
-			for _, r := range []api.Ratio{frac(0, 1), frac(1, 2), frac(2, 1), parts(power(479), one), parts(negative(one), power(479)), c.r} {
-				x, e := f.do(c.r, r)
-				expect(t, f.name+" of "+c.why+" and "+show(r), x, e, none, api.ErrRatio)
-				x, e = f.do(r, c.r)
-				expect(t, f.name+" of "+show(r)+" and "+c.why, x, e, none, api.ErrRatio)
+		for _, c := range sample.Invalid() {
+			for _, r := range []api.Ratio{frac(0, 1), frac(1, 2), frac(2, 1), parts(power(479), one), parts(negative(one), power(479)), c.R} {
+				x, e := f.do(c.R, r)
+				expect(t, f.name+" of "+c.Why+" and "+show(r), x, e, none, api.ErrRatio)
+				x, e = f.do(r, c.R)
+				expect(t, f.name+" of "+show(r)+" and "+c.Why, x, e, none, api.ErrRatio)
 			}
 		}
 	}
@@ -128,14 +129,14 @@ func TestSum(t *testing.T) {
 
 // TestSumOfInvalid is of P2.4: an element that is not valid in each position.
 func TestSumOfInvalid(t *testing.T) {
-	for _, c := range invalid() {
+	for _, c := range sample.Invalid() {
 		for i := range 4 {
 			l := []api.Ratio{frac(1, 2), frac(1, 3), frac(-5, 6)}
-			r, e := ratio.Sum(slices.Insert(l, i, c.r))
-			expect(t, "Sum with "+c.why, r, e, none, api.ErrRatio)
+			r, e := ratio.Sum(slices.Insert(l, i, c.R))
+			expect(t, "Sum with "+c.Why, r, e, none, api.ErrRatio)
 		}
-		r, e := ratio.Sum([]api.Ratio{c.r})
-		expect(t, "Sum of "+c.why, r, e, none, api.ErrRatio)
+		r, e := ratio.Sum([]api.Ratio{c.R})
+		expect(t, "Sum of "+c.Why, r, e, none, api.ErrRatio)
 	}
 }
 

@@ -7,6 +7,7 @@ import (
 
 	"fundadmin/api"
 	"fundadmin/ratio"
+	"fundadmin/sample"
 )
 
 // TestValid is of P2.1.
@@ -16,9 +17,9 @@ func TestValid(t *testing.T) {
 			t.Errorf("%s is valid", show(r))
 		}
 	}
-	for _, c := range invalid() {
-		if ratio.Valid(c.r) {
-			t.Errorf("%s is not valid", c.why)
+	for _, c := range sample.Invalid() {
+		if ratio.Valid(c.R) {
+			t.Errorf("%s is not valid", c.Why)
 		}
 	}
 }
@@ -147,16 +148,16 @@ func TestPartsOfSamples(t *testing.T) {
 
 // TestPartsOfInvalid is of P2.3.
 func TestPartsOfInvalid(t *testing.T) {
-	for _, c := range invalid() {
-		r, e := ratio.Neg(c.r)
-		expect(t, "Neg of "+c.why, r, e, none, api.ErrRatio)
-		r, e = ratio.Abs(c.r)
-		expect(t, "Abs of "+c.why, r, e, none, api.ErrRatio)
-		if n, e := ratio.Sign(c.r); n != 0 || e != api.ErrRatio {
-			t.Errorf("Sign of %s is %d, error %d", c.why, n, e)
+	for _, c := range sample.Invalid() {
+		r, e := ratio.Neg(c.R)
+		expect(t, "Neg of "+c.Why, r, e, none, api.ErrRatio)
+		r, e = ratio.Abs(c.R)
+		expect(t, "Abs of "+c.Why, r, e, none, api.ErrRatio)
+		if n, e := ratio.Sign(c.R); n != 0 || e != api.ErrRatio {
+			t.Errorf("Sign of %s is %d, error %d", c.Why, n, e)
 		}
-		if x, e := ratio.Floor(c.r); x != (api.Int{}) || e != api.ErrRatio {
-			t.Errorf("Floor of %s is %s, error %d", c.why, showInt(x), e)
+		if x, e := ratio.Floor(c.R); x != (api.Int{}) || e != api.ErrRatio {
+			t.Errorf("Floor of %s is %s, error %d", c.Why, showInt(x), e)
 		}
 	}
 }
@@ -198,10 +199,10 @@ func TestCmpOfSamples(t *testing.T) {
 
 // TestCmpOfInvalid is of P2.3: in either position and in both.
 func TestCmpOfInvalid(t *testing.T) {
-	for _, c := range invalid() {
-		for _, pair := range [][2]api.Ratio{{c.r, frac(1, 2)}, {frac(1, 2), c.r}, {c.r, frac(0, 1)}, {frac(0, 1), c.r}, {c.r, c.r}} {
+	for _, c := range sample.Invalid() {
+		for _, pair := range [][2]api.Ratio{{c.R, frac(1, 2)}, {frac(1, 2), c.R}, {c.R, frac(0, 1)}, {frac(0, 1), c.R}, {c.R, c.R}} {
 			if n, e := ratio.Cmp(pair[0], pair[1]); n != 0 || e != api.ErrRatio {
-				t.Errorf("%s: Cmp of %s and %s is %d, error %d", c.why, show(pair[0]), show(pair[1]), n, e)
+				t.Errorf("%s: Cmp of %s and %s is %d, error %d", c.Why, show(pair[0]), show(pair[1]), n, e)
 			}
 		}
 	}
